@@ -1,6 +1,6 @@
 """Plain lots, and what is left of a row when all that a lot makes is taken from it."""
 
-from rowwright.things import lead_place
+from rowwright.things import lead_place, unit
 
 
 def less(row, times, other):
@@ -53,3 +53,15 @@ def rest(lot, wide, row):
     for line in plain(lot, wide):
         left = lowered(left, line, lead_place(line))
     return left
+
+
+def tagged(lot):
+    """The rows of a lot, each with counts behind it that make it."""
+    # Whatever is done to tagged rows is done to the counts too: they go on making what stands ahead of them.
+    return tuple([row + unit(len(lot), number) for number, row in enumerate(lot)])
+
+
+def behind(lot, wide, more):
+    """The plain lot of what stands behind the first wide places, in those rows made of the lot with noughts at them."""
+    # In a plain lot it is the rows with leads further right that make these, and they stay plain when cut.
+    return tuple([line[wide:] for line in plain(lot, wide + more) if lead_place(line) >= wide])

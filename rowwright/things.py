@@ -1,4 +1,4 @@
-"""What rows, lots and plain lots are, and the sums that counts make."""
+"""What rows, lots and plain lots are, the sums that counts make, and other steps that all files draw on."""
 
 MOST_ROWS = 8
 
@@ -52,6 +52,32 @@ def is_plain(thing, wide):
     """Whether a thing is a plain lot of rows, each so wide."""
     # The order matters: only a lot can be asked for leads, and only where each row has one can they bound others.
     return is_lot(thing, wide) and leads_step_right(thing) and leads_bound_rows_ahead(thing)
+
+
+def unit(wide, place):
+    """The row with 1 at the place and noughts else."""
+    return (0,) * place + (1,) + (0,) * (wide - place - 1)
+
+
+def column(lot, place):
+    """What the rows of a lot have at the place, as a row."""
+    return tuple([row[place] for row in lot])
+
+
+def upright(lot, wide):
+    """The lot that has a row for each place of the lot told, and a place for each of its rows."""
+    return tuple([column(lot, place) for place in range(wide)])
+
+
+def common_divisor(one, other):
+    """The greatest common divisor of two whole numbers; 0 if both are 0."""
+    great = abs(one)
+    small = abs(other)
+    while small != 0:
+        left = great % small
+        great = small
+        small = left
+    return great
 
 
 def product(one, other):

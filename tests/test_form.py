@@ -17,6 +17,12 @@ INTERFACE = {
         "sum_of": ["counts", "lot", "wide"], "product": ["one", "other"],
     },
     "stacks": {"plain": ["lot", "wide"], "rest": ["lot", "wide", "row"]},
+    "ways": {"how": ["lot", "wide"], "made": ["lot", "wide", "row"]},
+    "level": {"idle": ["lot", "wide"], "across": ["lot", "wide"], "filled": ["lot", "wide"]},
+    "pairs": {
+        "together": ["one", "other", "wide"], "shared": ["one", "other", "wide"], "within": ["one", "other", "wide"],
+    },
+    "sizes": {"weight": ["lot", "wide"], "grades": ["lot", "wide"]},
 }
 
 OWN_NAMES = """
@@ -63,6 +69,21 @@ class Interface(unittest.TestCase):
             loaded = importlib.import_module("rowwright." + module)
             for name, arguments in functions.items():
                 self.assertEqual(list(inspect.signature(getattr(loaded, name)).parameters), arguments, name)
+
+
+class Readme(unittest.TestCase):
+    def test_the_examples_hold(self):
+        text = (PACKAGE.parent / "README.md").read_text(encoding="utf-8")
+        names = {}
+        told = 0
+        for line in re.search(r"```python\n(.*?)```", text, re.DOTALL).group(1).splitlines():
+            asked, sign, answer = line.partition("#")
+            if sign == "":
+                exec(line, names)
+            else:
+                told = told + 1
+                self.assertEqual(eval(asked, names), eval(answer.split(":")[0].strip()), line)
+        self.assertGreater(told, 10)
 
 
 class Form(unittest.TestCase):
@@ -113,6 +134,19 @@ class Form(unittest.TestCase):
                 loaded = importlib.import_module(node.module)
                 for alias in node.names:
                     self.assertEqual(getattr(loaded, alias.name).__module__, node.module, alias.name)
+
+    def test_no_two_files_draw_from_one_another(self):
+        drawn = {file.stem: [node.module.split(".")[1] for node in nodes(file, ast.ImportFrom)] for file in files()}
+        while len(drawn) > 0:
+            free = [stem for stem in drawn if not any([source in drawn for source in drawn[stem]])]
+            self.assertNotEqual(free, [], drawn)
+            drawn = {stem: sources for stem, sources in drawn.items() if stem not in free}
+
+    def test_no_name_is_bound_like_an_import(self):
+        for file in files():
+            drawn = [alias.name for node in nodes(file, ast.ImportFrom) for alias in node.names]
+            self.assertEqual(len(set(drawn)), len(drawn), file.name)
+            self.assertEqual([name for name in bound_names(file) if name in drawn], [], file.name)
 
     def test_names(self):
         for file in files():

@@ -3,31 +3,11 @@
 import unittest
 from itertools import product as all_choices
 
-from samples import LARGE, Numbers, WIDES, is_made, make_same, only_tuples_of_ints, plus
+from samples import (
+    LARGE, Numbers, WIDES, drawn_lots, is_made, lots_beyond, make_same, only_tuples_of_ints, plus, small_lots,
+)
 from rowwright.stacks import plain, rest
 from rowwright.things import is_plain, sum_of
-
-
-def small_lots():
-    """Lots of all wides and lengths, among them such with noughts and rows that others make."""
-    numbers = Numbers(11)
-    lots = []
-    for wide in WIDES:
-        for rows in range(0, 9):
-            lot = numbers.lot(rows, wide, 4)
-            few = numbers.lot(rows // 2, wide, 3)
-            mixed = tuple([sum_of(numbers.row(len(few), 3), few, wide) for number in range(rows)])
-            lots = lots + [(lot, wide), (few + mixed[len(few):], wide), (mixed, wide)]
-    return lots
-
-
-def large_lots():
-    numbers = Numbers(12)
-    lots = []
-    for wide in WIDES:
-        for rows in (1, 3, 8):
-            lots = lots + [(numbers.lot(rows, wide, LARGE), wide)]
-    return lots
 
 
 def other_lots_that_make_the_same(numbers, lot, wide):
@@ -90,31 +70,24 @@ class PlainLot(unittest.TestCase):
                 self.assertEqual(plain(((0,) * wide,) * rows, wide), ())
 
     def test_it_is_plain(self):
-        for lot, wide in small_lots() + large_lots():
+        for lot, wide in drawn_lots():
             told = plain(lot, wide)
             self.assertTrue(is_plain(told, wide), lot)
             self.assertTrue(only_tuples_of_ints(told), lot)
 
     def test_of_a_plain_lot_it_is_itself(self):
-        for lot, wide in small_lots() + large_lots():
+        for lot, wide in drawn_lots():
             told = plain(lot, wide)
             self.assertEqual(plain(told, wide), told)
         self.assertEqual(plain(((5, -9, 0, 8), (0, 0, 1, -8)), 4), ((5, -9, 0, 8), (0, 0, 1, -8)))
 
     def test_the_same_rows_are_made(self):
-        for lot, wide in small_lots():
-            if min(len(lot), wide) <= 4:
-                self.assertTrue(make_same(lot, plain(lot, wide), wide), lot)
-
-    def test_the_same_rows_are_made_of_large_ones(self):
-        numbers = Numbers(13)
-        for rows, wide in ((2, 2), (3, 3), (4, 3), (3, 4), (2, 8), (8, 2)):
-            lot = numbers.lot(rows, wide, LARGE)
+        for lot, wide in drawn_lots() + lots_beyond():
             self.assertTrue(make_same(lot, plain(lot, wide), wide), lot)
 
     def test_it_stays_the_same(self):
         numbers = Numbers(14)
-        for lot, wide in small_lots() + large_lots():
+        for lot, wide in drawn_lots():
             if len(lot) > 0:
                 for other in other_lots_that_make_the_same(numbers, lot, wide):
                     self.assertEqual(plain(other, wide), plain(lot, wide), (lot, other))
@@ -169,7 +142,7 @@ class Rest(unittest.TestCase):
 
     def test_of_made_rows_it_is_noughts(self):
         numbers = Numbers(22)
-        for lot, wide in small_lots() + large_lots():
+        for lot, wide in drawn_lots():
             self.assertEqual(rest(lot, wide, (0,) * wide), (0,) * wide)
             for row in lot:
                 self.assertEqual(rest(lot, wide, row), (0,) * wide, lot)
@@ -191,7 +164,7 @@ class Rest(unittest.TestCase):
 
     def test_numbers_at_the_leads(self):
         numbers = Numbers(24)
-        for lot, wide in small_lots() + large_lots():
+        for lot, wide in drawn_lots():
             for high in (5, LARGE):
                 told = rest(lot, wide, numbers.row(wide, high))
                 self.assertTrue(only_tuples_of_ints(told))
@@ -201,15 +174,14 @@ class Rest(unittest.TestCase):
 
     def test_it_lies_apart_by_a_made_row(self):
         numbers = Numbers(25)
-        for lot, wide in small_lots():
-            if min(len(lot), wide) <= 3:
-                row = numbers.row(wide, 9)
-                apart = plus(row, -1, rest(lot, wide, row))
-                self.assertTrue(is_made(apart, lot, wide), (lot, row))
+        for lot, wide in drawn_lots():
+            row = numbers.row(wide, 9)
+            apart = plus(row, -1, rest(lot, wide, row))
+            self.assertTrue(is_made(apart, lot, wide), (lot, row))
 
     def test_the_same_with_a_made_row_added(self):
         numbers = Numbers(26)
-        for lot, wide in small_lots() + large_lots():
+        for lot, wide in drawn_lots():
             row = numbers.row(wide, 50)
             told = rest(lot, wide, row)
             for high in (1, 9, LARGE):
@@ -247,7 +219,7 @@ class NothingIsChanged(unittest.TestCase):
     def test_the_same_again_and_all_as_it_was(self):
         numbers = Numbers(31)
         asked = []
-        for lot, wide in small_lots() + large_lots():
+        for lot, wide in drawn_lots():
             row = numbers.row(wide, 9)
             kept = repr((lot, row))
             asked = asked + [(lot, wide, row, plain(lot, wide), rest(lot, wide, row))]
